@@ -1,0 +1,1 @@
+"""Triesgrow: readers that try, and how their tries grow."""
