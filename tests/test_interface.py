@@ -16,6 +16,18 @@ FUNCTIONS = {
         "look_at": {"thing": NEEDED}, "turned": {"machine": NEEDED},
         "called": {"machine": NEEDED, "rooms": NEEDED}, "beginnings": {"machine": NEEDED},
     },
+    "triesgrow.machinetexts": {"shown_machine": {"machine": NEEDED}, "read_machine": {"text": NEEDED}},
+    "triesgrow.ways": {
+        "ways": {"machine": NEEDED, "text": NEEDED, "first": None, "last": None},
+        "counts": {"machine": NEEDED, "text": NEEDED}, "beginnings_by": {"machine": NEEDED, "text": NEEDED},
+        "weighed": {"machine": NEEDED, "text": NEEDED, "worth": NEEDED},
+        "reached": {"machine": NEEDED, "text": NEEDED},
+    },
+    "triesgrow.numbering": {
+        "way_at": {"machine": NEEDED, "text": NEEDED, "number": NEEDED},
+        "number_of": {"machine": NEEDED, "text": NEEDED, "way": NEEDED},
+    },
+    "triesgrow.positions": {"machine_of": {"pattern": NEEDED}, "reads_none": {"pattern": NEEDED}},
 }
 
 
