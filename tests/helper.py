@@ -141,3 +141,26 @@ def listed_beginnings(machine, word):
 def listed_ways(machine, word):
     """All ways of the word, in order, gone through one by one."""
     return [way for way in listed_beginnings(machine, word) if way[-1] in machine[2]]
+
+
+def listed_tries(machine, word):
+    """All beginnings, in the order in which a trier comes to them, gone through one by one."""
+    _, firsts, _, steps = machine
+    told = []
+
+    def come_to(way):
+        told.append(way)
+        for room, sign, other in steps:
+            if len(way) <= len(word) and room == way[-1] and sign == word[len(way) - 1]:
+                come_to(way + [other])
+
+    for room in firsts:
+        come_to([room])
+    return told
+
+
+def no_numbers(least, most=None):
+    """Things of many kinds, none of them a whole number from the least one to the most, if there is a most."""
+    others = [thing for thing in oddities() if type(thing) is not int or thing < least or most and thing > most]
+    others += [least - 1, str(least), float(least), [least], (least,), -(10 ** 59)]
+    return others + ([most + 1, most + 2, -most, 10 ** 59] if most else [])

@@ -28,7 +28,29 @@ FUNCTIONS = {
         "number_of": {"machine": NEEDED, "text": NEEDED, "way": NEEDED},
     },
     "triesgrow.positions": {"machine_of": {"pattern": NEEDED}, "reads_none": {"pattern": NEEDED}},
+    "triesgrow.fits": {"fits": {"pattern": NEEDED, "text": NEEDED}},
+    "triesgrow.tries": {
+        "tries_all": {"machine": NEEDED, "text": NEEDED},
+        "tries_to": {"machine": NEEDED, "text": NEEDED, "number": NEEDED},
+    },
 }
+# Each class with its methods, their arguments behind the object itself.
+CLASSES = {
+    ("triesgrow.trier", "Trier"): {
+        "__init__": {"machine": NEEDED, "text": NEEDED, "most": 1000},
+        "go": {}, "tries": {}, "found": {}, "__len__": {},
+    },
+    ("triesgrow.reader", "Reader"): {
+        "__init__": {"machine": NEEDED},
+        "feed": {"sign": NEEDED}, "take": {"text": NEEDED}, "back": {"many": 1},
+        "text": {}, "reached": {}, "counts": {}, "ways": {}, "is_read": {}, "twin": {}, "__len__": {}, "__repr__": {},
+    },
+}
+
+
+def arguments_of(function):
+    """The function's arguments by their names, each with what stands behind =, in order."""
+    return [(name, each.default) for name, each in inspect.signature(function).parameters.items()]
 
 
 class Interface(unittest.TestCase):
@@ -41,8 +63,25 @@ class Interface(unittest.TestCase):
                     function = getattr(module, name)
                     self.assertTrue(inspect.isfunction(function))
                     self.assertEqual(function.__module__, place)
-                    told = inspect.signature(function).parameters
-                    self.assertEqual({key: each.default for key, each in told.items()}, wanted)
-                    self.assertEqual(list(told), list(wanted))
-                    kinds = {each.kind for each in told.values()}
-                    self.assertEqual(kinds, {inspect.Parameter.POSITIONAL_OR_KEYWORD})
+                    self.assertEqual(arguments_of(function), list(wanted.items()))
+                    self.by_place_and_name(function)
+
+    def test_classes(self):
+        for (place, name), methods in CLASSES.items():
+            told = getattr(importlib.import_module(place), name)
+            self.assertTrue(inspect.isclass(told))
+            self.assertEqual(told.__module__, place)
+            for method, wanted in methods.items():
+                with self.subTest(name=name, method=method):
+                    function = vars(told)[method]
+                    self.assertTrue(inspect.isfunction(function))
+                    self.assertEqual(arguments_of(function)[1:], list(wanted.items()))
+                    self.by_place_and_name(function)
+
+    def test_the_reader_has_its_own_alikeness(self):
+        reader = importlib.import_module("triesgrow.reader").Reader
+        self.assertEqual(vars(reader)["__eq__"].__module__, "triesgrow.reader")
+
+    def by_place_and_name(self, function):
+        kinds = {each.kind for each in inspect.signature(function).parameters.values()}
+        self.assertEqual(kinds, {inspect.Parameter.POSITIONAL_OR_KEYWORD})

@@ -1,6 +1,6 @@
 """What is asked of single things in the whole program: whole numbers, signs, words, rooms."""
 
-from triesgrow.errors import NoRoom, NoWord
+from triesgrow.errors import NoNumber, NoRoom, NoWord
 
 WORD_MOST = 400
 
@@ -41,3 +41,9 @@ def look_at_room(thing, many):
     """Refuses, with NoRoom, what is no room where there are so many rooms."""
     if not is_room(thing, many):
         raise NoRoom(thing)
+
+
+def look_at_number(thing, least, most):
+    """Refuses, with NoNumber, what is no whole number from the least one to the most."""
+    if not is_whole(thing) or not least <= thing <= most:
+        raise NoNumber(thing)

@@ -82,3 +82,8 @@ def beginnings(machine):
     look_at(machine)
     many, firsts, _, steps = machine
     return many, list(firsts), list(range(many)), list(steps)
+
+
+def signs_of(machine):
+    """The signs that some step of the machine has, as letters go."""
+    return sorted({sign for _, sign, _ in machine[3]})

@@ -30,19 +30,31 @@ def number_of(machine, text, way):
     """The number of this way of the word."""
     look_at(machine)
     look_at_word(text)
-    if not isinstance(way, list):
+    look_at_way(machine, text, way)
+    return ahead_of(machine, text, way, onward_by(machine, text))
+
+
+def look_at_way(machine, text, thing):
+    """Refuses, with NoWay, what is no way of the word."""
+    if not isinstance(thing, list):
         raise NoWay(None)
-    onward = onward_by(machine, text)
     rooms = machine[1]
-    number = 0
-    for at, room in enumerate(way):
+    for at, room in enumerate(thing):
         if not is_whole(room) or room not in rooms or (at == len(text) and room not in machine[2]):
             raise NoWay(at)
-        number += share(onward[at], rooms[:rooms.index(room)])
         rooms = rooms_behind(machine, text, at, room)
-    if len(way) <= len(text):
-        raise NoWay(len(way))
-    return number
+    if len(thing) <= len(text):
+        raise NoWay(len(thing))
+
+
+def ahead_of(machine, text, way, tables):
+    """What all rooms that could stand ahead of the way's own have together, each in its place's table."""
+    rooms = machine[1]
+    total = 0
+    for at, room in enumerate(way):
+        total += share(tables[at], rooms[:rooms.index(room)])
+        rooms = rooms_behind(machine, text, at, room)
+    return total
 
 
 def onward_by(machine, text):

@@ -7,12 +7,18 @@ from triesgrow.patterns import inner_of, leaves_of
 
 def machine_of(pattern):
     """The machine of the pattern."""
+    machine = unbounded(pattern)
+    if len(machine[3]) > STEPS_MOST:
+        raise TooMany(STEPS_MOST)
+    return machine
+
+
+def unbounded(pattern):
+    """The machine of the pattern, however many steps it has."""
     none, begins, ends, pairs = places(pattern, 1)
     letters = letters_of(pattern)
     leads = all_pairs([0], begins) + pairs
     steps = sorted({(room, sign, other) for room, other in leads for sign in letters[other - 1]})
-    if len(steps) > STEPS_MOST:
-        raise TooMany(STEPS_MOST)
     return 1 + len(letters), [0], sorted([0] + ends if none else ends), steps
 
 

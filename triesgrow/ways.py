@@ -32,7 +32,7 @@ def beginnings_by(machine, text):
 
 def reached(machine, text):
     """The rooms in which beginnings of the whole word end, rising."""
-    return [room for room, many in enumerate(counts(machine, text)) if many > 0]
+    return rooms_with(counts(machine, text))
 
 
 def weighed(machine, text, worth):
@@ -52,16 +52,26 @@ def share(vector, rooms):
     return sum([vector[room] for room in rooms])
 
 
+def rooms_with(vector):
+    """The rooms at which the vector has something, rising."""
+    return [room for room, many in enumerate(vector) if many > 0]
+
+
 def vectors(machine, text, rooms, worth):
     """For 0, 1, 2 .. signs of the word, what the beginnings from these rooms that end in each room are worth."""
     many, _, _, steps = machine
     moves = moves_by(steps, text, worth)
-    vector = [1 if room in rooms else 0 for room in range(many)]
+    vector = one_at(rooms, many)
     told = [vector]
     for sign in text:
         vector = moved(vector, moves[sign])
         told.append(vector)
     return told
+
+
+def one_at(rooms, many):
+    """The vector of so many rooms with 1 at these rooms, else 0."""
+    return [1 if room in rooms else 0 for room in range(many)]
 
 
 def moves_by(steps, text, worth):
