@@ -33,6 +33,14 @@ FUNCTIONS = {
         "tries_all": {"machine": NEEDED, "text": NEEDED},
         "tries_to": {"machine": NEEDED, "text": NEEDED, "number": NEEDED},
     },
+    "triesgrow.roomtexts": {
+        "rooms_text": {"machine": NEEDED, "rooms": NEEDED}, "rooms_in": {"machine": NEEDED, "text": NEEDED},
+    },
+    "triesgrow.sets": {"sets_of": {"machine": NEEDED, "most": 400}},
+    "triesgrow.useful": {
+        "useful": {"machine": NEEDED}, "trimmed": {"machine": NEEDED},
+        "text_between": {"machine": NEEDED, "room": NEEDED, "other": NEEDED},
+    },
 }
 # Each class with its methods, their arguments behind the object itself.
 CLASSES = {
@@ -44,6 +52,10 @@ CLASSES = {
         "__init__": {"machine": NEEDED},
         "feed": {"sign": NEEDED}, "take": {"text": NEEDED}, "back": {"many": 1},
         "text": {}, "reached": {}, "counts": {}, "ways": {}, "is_read": {}, "twin": {}, "__len__": {}, "__repr__": {},
+    },
+    ("triesgrow.known", "Known"): {
+        "__init__": {"machine": NEEDED, "most": 50},
+        "reads": {"text": NEEDED}, "reached": {"text": NEEDED}, "known": {}, "forget": {},
     },
 }
 

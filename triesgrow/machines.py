@@ -87,3 +87,12 @@ def beginnings(machine):
 def signs_of(machine):
     """The signs that some step of the machine has, as letters go."""
     return sorted({sign for _, sign, _ in machine[3]})
+
+
+def steps_by(steps, signs):
+    """For each of the signs the steps by it, as they stand."""
+    told = {sign: [] for sign in signs}
+    for step in steps:
+        if step[1] in told:
+            told[step[1]].append(step)
+    return told

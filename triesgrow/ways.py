@@ -1,7 +1,7 @@
 """Ways and beginnings of words: how many there are, where they end, what they are worth."""
 
 from triesgrow.kinds import look_at_room, look_at_word
-from triesgrow.machines import look_at
+from triesgrow.machines import look_at, steps_by
 
 
 def ways(machine, text, first=None, last=None):
@@ -74,12 +74,11 @@ def one_at(rooms, many):
     return [1 if room in rooms else 0 for room in range(many)]
 
 
-def moves_by(steps, text, worth):
-    """For each sign of the text its steps, each as (room, other, what it is worth)."""
-    moves = {sign: [] for sign in text}
-    for room, sign, other in steps:
-        if sign in moves:
-            moves[sign].append((room, other, worth(room, sign, other)))
+def moves_by(steps, signs, worth):
+    """For each of the signs the steps by it, each as (room, other, what it is worth)."""
+    moves = {}
+    for sign, led in steps_by(steps, signs).items():
+        moves[sign] = [(room, other, worth(room, sign, other)) for room, _, other in led]
     return moves
 
 
