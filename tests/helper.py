@@ -164,3 +164,95 @@ def no_numbers(least, most=None):
     others = [thing for thing in oddities() if type(thing) is not int or thing < least or most and thing > most]
     others += [least - 1, str(least), float(least), [least], (least,), -(10 ** 59)]
     return others + ([most + 1, most + 2, -most, 10 ** 59] if most else [])
+
+
+def by_pairs(machine, word):
+    """For each two rooms how many ways, gone through one by one, lead on the word from the one to the other."""
+    many, _, _, steps = machine
+    told = {}
+    for room in range(many):
+        for way in listed_beginnings((many, [room], [], steps), word):
+            told[room, way[-1]] = told.get((room, way[-1]), 0) + 1
+    return told
+
+
+def led_to(machine, rooms):
+    """All rooms to which words lead from these."""
+    told = set(rooms)
+    while True:
+        more = told | {other for room, _, other in machine[3] if room in told}
+        if more == told:
+            return told
+        told = more
+
+
+def useful_rooms(machine):
+    """The useful rooms, found otherwise than the program does."""
+    many, firsts, lasts, _ = machine
+    ahead = led_to(machine, firsts)
+    return [room for room in range(many) if room in ahead and led_to(machine, [room]) & set(lasts)]
+
+
+def chain(many, signs="a"):
+    """Rooms with a step by each of the signs to themselves and to the next one: each leads the rounds of all behind."""
+    steps = [(room, sign, room) for room in range(many) for sign in signs]
+    steps += [(room, sign, room + 1) for room in range(many - 1) for sign in signs]
+    return many, [0], [many - 1], steps
+
+
+def ring(rooms, signs):
+    """The steps of a ring of these rooms, by the signs in turn."""
+    return [(room, signs[at % len(signs)], rooms[(at + 1) % len(rooms)]) for at, room in enumerate(rooms)]
+
+
+# Rings of five and of seven rooms through room 0; one of five that leads into one of seven; rooms beside that go
+# double, but are not useful.
+RINGS = (11, [0], [0], ring([0, 1, 2, 3, 4], "a") + ring([0, 5, 6, 7, 8, 9, 10], "a"))
+INTO = (12, [0], [11], ring([0, 1, 2, 3, 4], "a") + ring([5, 6, 7, 8, 9, 10, 11], "a") + [(2, "a", 7)])
+BESIDE = (5, [0], [1], [(0, "a", 0), (0, "a", 1), (1, "a", 1), (2, "a", 2), (2, "a", 3), (3, "a", 2), (3, "a", 0),
+                        (1, "b", 4), (4, "a", 4), (4, "b", 4)])
+
+
+def growing():
+    """Machines of which ways grow in all three manners, each with how they do."""
+    never, doubles = ("never",), ("doubles",)
+    loops = [(0, "a", 0), (0, "a", 1), (1, "a", 1)]
+    told = [(chain(many), ("power", many - 1) if many > 1 else never) for many in range(1, 13)]
+    told += [((many, [0], [many - 1], ring(list(range(many)), "ab")), never) for many in (1, 2, 5, 12)]
+    return told + [
+        ((1, [], [], []), never),
+        ((12, [], [0], chain(12)[3]), never),
+        ((12, [0], [], chain(12)[3]), never),
+        ((12, list(range(12)), list(range(12)), []), never),
+        ((2, [0], [1], [(0, "a", 0), (1, "a", 1)]), never),
+        ((2, [0], [1], [(0, "a", 1), (0, "b", 1)]), never),
+        ((3, [0], [2], [(0, "a", 0), (0, "a", 2), (2, "b", 2)]), never),
+        ((2, [0], [1], [(0, "a", 0), (0, "b", 1), (1, "a", 1)]), never),
+        (RINGS, doubles),
+        (INTO, ("power", 1)),
+        (BESIDE, ("power", 1)),
+        (crowded(), doubles),
+        ((2, [0], [0], [(0, "a", 0), (0, "a", 1), (1, "a", 0)]), doubles),
+        ((2, [0], [1], loops + [(0, "b", 1), (1, "b", 0)]), doubles),
+        # Of both pairs none leads to the other, so they don't follow one another.
+        ((4, [0, 2], [1, 3], loops + [(2, "a", 2), (2, "a", 3), (3, "a", 3)]), ("power", 1)),
+        ((4, [0], [3], loops + [(1, "b", 2), (2, "c", 2), (2, "c", 3), (3, "c", 3)]), ("power", 2)),
+        ((3, [0], [2], loops + [(1, "b", 1), (1, "b", 2), (2, "b", 2)]), ("power", 2)),
+        ((3, [0], [2], loops + [(1, "b", 2), (2, "b", 2)]), ("power", 1)),
+    ]
+
+
+def few_by_pairs(machine, word):
+    """For each two rooms how many ways lead on the word from the one to the other, 2 where there are more."""
+    many, _, _, steps = machine
+    told = {}
+    for room in range(many):
+        held = {room: 1}
+        for sign in word:
+            after = {}
+            for begin, by, other in steps:
+                if by == sign and begin in held:
+                    after[other] = min(2, after.get(other, 0) + held[begin])
+            held = after
+        told.update({(room, other): count for other, count in held.items()})
+    return told

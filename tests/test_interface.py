@@ -41,6 +41,16 @@ FUNCTIONS = {
         "useful": {"machine": NEEDED}, "trimmed": {"machine": NEEDED},
         "text_between": {"machine": NEEDED, "room": NEEDED, "other": NEEDED},
     },
+    "triesgrow.rounds": {"double_rounds": {"machine": NEEDED}, "led_rounds": {"machine": NEEDED}},
+    "triesgrow.growth": {"growth": {"machine": NEEDED}, "ranks": {"machine": NEEDED}},
+    "triesgrow.pumps": {
+        "pump_of": {"machine": NEEDED}, "lets_pump": {"machine": NEEDED, "thing": NEEDED},
+        "laid": {"pump": NEEDED, "many": 1}, "least_ways": {"pump": NEEDED, "many": 1},
+    },
+    "triesgrow.tables": {
+        "lets_table": {"machine": NEEDED, "thing": NEEDED},
+        "bound": {"machine": NEEDED, "table": NEEDED, "n": NEEDED},
+    },
 }
 # Each class with its methods, their arguments behind the object itself.
 CLASSES = {
