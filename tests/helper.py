@@ -256,3 +256,12 @@ def few_by_pairs(machine, word):
             held = after
         told.update({(room, other): count for other, count in held.items()})
     return told
+
+
+def moving(firsts, lasts, **leads):
+    """A machine in which each sign leads from each room to one room at most, these written as figures, in order."""
+    figures = "0123456789xy"
+    steps = [(room, sign, figures.index(figure)) for sign, row in leads.items()
+             for room, figure in enumerate(row) if figure != "."]
+    many = len(next(iter(leads.values())))
+    return many, [figures.index(figure) for figure in firsts], [figures.index(figure) for figure in lasts], steps

@@ -51,6 +51,16 @@ FUNCTIONS = {
         "lets_table": {"machine": NEEDED, "thing": NEEDED},
         "bound": {"machine": NEEDED, "table": NEEDED, "n": NEEDED},
     },
+    "triesgrow.above": {"table_of": {"machine": NEEDED, "most": 400}, "greatest": {"machine": NEEDED}},
+    "triesgrow.otherwise": {"put_otherwise": {"pattern": NEEDED}},
+    "triesgrow.sameness": {
+        "parting": {"one": NEEDED, "other": NEEDED},
+        "closed_of": {"one": NEEDED, "other": NEEDED, "most": 400},
+        "lets_closed": {"one": NEEDED, "other": NEEDED, "thing": NEEDED},
+    },
+    "triesgrow.slow": {
+        "stopper": {"machine": NEEDED}, "slow_pump": {"machine": NEEDED}, "slow_word": {"machine": NEEDED, "many": 1},
+    },
 }
 # Each class with its methods, their arguments behind the object itself.
 CLASSES = {
@@ -67,6 +77,7 @@ CLASSES = {
         "__init__": {"machine": NEEDED, "most": 50},
         "reads": {"text": NEEDED}, "reached": {"text": NEEDED}, "known": {}, "forget": {},
     },
+    ("triesgrow.desk", "Desk"): {"__init__": {}, "say": {"row": NEEDED}},
 }
 
 

@@ -124,6 +124,19 @@ class Told(Case):
         self.same_kinds(pump_of((8, [2, 4], [6, 7], steps + ahead + behind)), (["d", "a", "g"], [(0, 1)]))
         self.same_kinds(pump_of((8, [2], [6], steps + ahead + behind)), (["bc", "a", "ef"], [(0, 1)]))
 
+    def test_rounds_that_follow_one_another(self):
+        def led(room, other):
+            return [(room, "a", room), (room, "a", other), (other, "a", other)]
+
+        # A pair beside, the first one as rooms go, leads to the end of the chain, but not to the rooms ahead.
+        for beside in ([], [(1, "b", 4)], [(1, "c", 4), (0, "c", 4)]):
+            machine = (5, [0, 2], [1, 4], led(0, 1) + led(2, 3) + led(3, 4)[1:] + beside)
+            self.same_kinds(pump_of(machine), (["", "a", "", "a", ""], [(2, 3), (3, 4)]))
+        # From the first pair the third one is nearer than the second.
+        machine = (7, [0], [5], led(0, 1) + led(2, 3) + led(4, 5) + [
+            (1, "b", 6), (6, "b", 2), (1, "c", 4), (3, "d", 4)])
+        self.same_kinds(pump_of(machine), (["", "a", "bb", "a", "d", "a", ""], [(0, 1), (2, 3), (4, 5)]))
+
     def test_long_middles(self):
         texts, rounds = pump_of(INTO)
         self.assertEqual(texts[1], "a" * 35)

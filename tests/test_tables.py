@@ -266,7 +266,8 @@ class NoTables(Case):
             (listed, [[[True, 0]], [[0, 1]]]), (listed, [[[1, False]], [[0, 1]]]), (listed, [[[1, 0.0]], [[0, 1]]]),
             (listed, [[[1]], [[1]]]), (listed, [[[1, 0, 0]], [[0, 1, 0]]]), (listed, [[[]], [[]]]),
             (listed, [[[1, 0]], [[0, -1]]]), (listed, [[[1, -1]], [[0, 1]]]), (listed, [[1, 0], [0, 1]]),
-            (listed, {0: [[1, 0]], 1: [[0, 1]]}), (listed, [[[1, None]], [[0, 1]]]), (None, None), ({0: 0, 1: 1}, parts),
+            (listed, {0: [[1, 0]], 1: [[0, 1]]}), (listed, [[[1, None]], [[0, 1]]]), (None, None),
+            ({0: 0, 1: 1}, parts),
             (listed, "ab"), (listed, [[[1, 0]], None]), (listed, [None, [[0, 1]]]), ([0, None], [[[1, 0]]]),
         ]:
             self.is_false(lets_table(TWO, thing), thing)

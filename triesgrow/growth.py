@@ -26,7 +26,7 @@ def greatest_rank(told):
 def ranks_by(machine, pairs):
     """The rank of each room where none goes double, from the pairs of which the first leads the other's rounds."""
     told = {room: 0 for room in useful(machine)}
-    behind = {other: rooms_behind(machine, other, told) for _, other, _ in pairs}
+    behind = {other: rooms_led_from(machine, other, told) for _, other, _ in pairs}
     # As no pair can follow itself, there are fewer pairs one behind the other than rooms.
     for _ in range(len(told)):
         for room, other, _ in pairs:
@@ -35,6 +35,6 @@ def ranks_by(machine, pairs):
     return [told.get(room) for room in range(machine[0])]
 
 
-def rooms_behind(machine, room, rooms):
+def rooms_led_from(machine, room, rooms):
     """Those of the rooms to which a word leads from the room."""
     return [other for other in led_to([room], machine[3]) if other in rooms]

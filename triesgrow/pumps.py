@@ -1,11 +1,11 @@
 """Pumps: words with middles that are laid again and again, and so have more and more ways."""
 
 from triesgrow.errors import TooMany
-from triesgrow.growth import greatest_rank, ranks_by, rooms_behind
+from triesgrow.growth import greatest_rank, ranks_by, rooms_led_from
 from triesgrow.kinds import WORD_MOST, is_room, is_sign, look_at_number
 from triesgrow.machines import look_at, signs_of
 from triesgrow.rounds import double_rounds, led_rounds
-from triesgrow.useful import text_between, texts_from
+from triesgrow.useful import text_between
 from triesgrow.ways import moved, moves_by, one_at, worth_one
 
 ROUNDS_MOST = 12
@@ -29,7 +29,7 @@ def longest_chain(machine, pairs):
     power = greatest_rank(told)
     last = told.index(power) if power > 0 else None
     for rank in range(power - 1, -1, -1):
-        nearest = [pair for pair in pairs if told[pair[0]] == rank and rooms_behind(machine, pair[1], [last])]
+        nearest = [pair for pair in pairs if told[pair[0]] == rank and rooms_led_from(machine, pair[1], [last])]
         chain = [nearest[0]] + chain
         last = nearest[0][0]
     return chain
@@ -38,27 +38,27 @@ def longest_chain(machine, pairs):
 def put_together(machine, chain):
     """The pump with these rounds, each told with its middle."""
     _, firsts, lasts, _ = machine
-    texts = [shortest([texts_from(machine, first).get(chain[0][0]) for first in firsts])]
+    texts = [shortest_between(machine, firsts, [chain[0][0]])]
     for at, (_, other, middle) in enumerate(chain):
-        following = [text_between(machine, other, pair[0]) for pair in chain[at + 1:at + 2]]
-        onward = following or [text_between(machine, other, last) for last in lasts]
-        texts += [middle, shortest(onward)]
+        following = [room for room, _, _ in chain[at + 1:at + 2]]
+        texts += [middle, shortest_between(machine, [other], following or lasts)]
     return texts, [(room, other) for room, other, _ in chain]
 
 
-def shortest(texts):
-    """The shortest of the texts, of several the first as letters go; those that are None don't count."""
+def shortest_between(machine, rooms, others):
+    """The shortest word that leads from one of the rooms to one of the others, of several the first as letters go."""
+    texts = [text_between(machine, room, other) for room in rooms for other in others]
     return min([text for text in texts if text is not None], key=lambda text: (len(text), text))
 
 
 def lets_pump(machine, thing):
     """Whether the thing is a pump of the machine."""
     look_at(machine)
-    return is_formed(thing, machine[0]) and leads_through(machine, thing)
+    return is_pump(thing, machine[0]) and leads_through(machine, thing)
 
 
-def is_formed(thing, many):
-    """Whether the thing is formed as a pump of a machine with so many rooms."""
+def is_pump(thing, many):
+    """Whether the thing has the form of a pump of a machine with so many rooms."""
     if not isinstance(thing, tuple) or len(thing) != 2:
         return False
     texts, rounds = thing
@@ -66,7 +66,7 @@ def is_formed(thing, many):
         return False
     if not 1 <= len(rounds) <= ROUNDS_MOST or len(texts) != 2 * len(rounds) + 1:
         return False
-    return all([are_signs(text) for text in texts]) and all([is_pair(pair, many) for pair in rounds])
+    return all([are_signs(text) for text in texts]) and all([is_round(pair, many) for pair in rounds])
 
 
 def are_signs(thing):
@@ -74,7 +74,7 @@ def are_signs(thing):
     return isinstance(thing, str) and all([is_sign(sign) for sign in thing])
 
 
-def is_pair(thing, many):
+def is_round(thing, many):
     """Whether the thing is a tuple of two rooms where there are so many."""
     return isinstance(thing, tuple) and len(thing) == 2 and all([is_room(room, many) for room in thing])
 
@@ -94,8 +94,7 @@ def leads_through(machine, pump):
 
 def is_middle(machine, room, other, text):
     """Whether the text can be the middle of this round."""
-    if text == "":
-        return False
+    # The text without signs leads in one way to the room itself, and to no other one, so it can be none.
     ways = few_ways(machine, [room], text)
     if room == other:
         return ways[room] > 1
